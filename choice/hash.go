@@ -1,4 +1,4 @@
-// Package choice: how a number is chosen by bytes (P5).
+// Package choice: the hash and the table by which packets come to backends and to owners (P5 to P7).
 package choice
 
 const (

@@ -25,6 +25,11 @@ func WellFormed(p api.Packet) bool {
 	return n > 0 && p.Sport == 0 && p.Dport == 0
 }
 
+// Whole tells if p is no piece, but all of its datagram.
+func Whole(p api.Packet) bool {
+	return p.Off == 0 && !p.More
+}
+
 // Pack writes a packet as bytes.
 func Pack(p api.Packet) ([]byte, api.Errno) {
 	if !WellFormed(p) {

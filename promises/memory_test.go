@@ -2,6 +2,7 @@ package promises
 
 import (
 	"bytes"
+	"slices"
 	"testing"
 
 	"ferry/api"
@@ -19,6 +20,24 @@ func scribble(l []byte) {
 	l = l[:cap(l)]
 	for i := range l {
 		l[i] ^= 0xff
+	}
+}
+
+// checkApart: no two lists have a place in common, nor one with the spare room of another. (To write twice is as if never.)
+func checkApart[T comparable](t *testing.T, lists [][]T, write func([]T)) {
+	t.Helper()
+	var kept [][]T
+	for _, l := range lists {
+		kept = append(kept, slices.Clone(l[:cap(l)]))
+	}
+	for i, l := range lists {
+		write(l)
+		for k, m := range lists {
+			if k != i && !slices.Equal(m[:cap(m)], kept[k]) {
+				t.Errorf("P2: the lists %d and %d share memory", i, k)
+			}
+		}
+		write(l)
 	}
 }
 
@@ -85,24 +104,13 @@ func TestP2Unpack(t *testing.T) {
 
 // TestP2Spare: of answers of different calls none reaches into another, nor into its spare room.
 func TestP2Spare(t *testing.T) {
-	var lists, kept [][]byte
+	var lists [][]byte
 	for _, p := range packets() {
 		b, _ := ferry.Pack(p)
 		q, _ := ferry.Unpack(written(p))
 		lists = append(lists, b, q.Data)
 	}
-	for _, l := range lists {
-		kept = append(kept, bytes.Clone(l[:cap(l)]))
-	}
-	for i, l := range lists {
-		scribble(l)
-		for k, m := range lists {
-			if k != i && !bytes.Equal(m[:cap(m)], kept[k]) {
-				t.Errorf("P2: the answers %d and %d share memory", i, k)
-			}
-		}
-		scribble(l)
-	}
+	checkApart(t, lists, scribble)
 }
 
 func TestP2Hash(t *testing.T) {
