@@ -5,6 +5,7 @@ import (
 	"ferry/api"
 	"ferry/choice"
 	"ferry/packet"
+	"ferry/pieces"
 )
 
 // Pack writes a packet as bytes (P3).
@@ -21,10 +22,17 @@ func Table(backends []uint8) ([]uint8, api.Errno) { return choice.Table(backends
 
 // Cluster is some replicas.
 type Cluster struct {
-	replicas int
-	table    []uint8 // empty, as long as there are no backends
+	stores   []pieces.Store // one for each replica
+	table    []uint8        // empty, as long as there are no backends
 	arrivals int
 	events   []api.Event // not yet taken
+	flights  []flight    // in the order in which they were sent
+}
+
+// flight is a piece between the replica that it arrived at and its owner.
+type flight struct {
+	way   api.Flight
+	piece pieces.Piece
 }
 
 // New makes a cluster (P7).
@@ -32,7 +40,7 @@ func New(replicas int, life int) (*Cluster, api.Errno) {
 	if replicas < 1 || replicas > api.MaxReplicas || life < 1 || life > api.MaxLife {
 		return nil, api.ErrArg
 	}
-	return &Cluster{replicas: replicas}, api.OK
+	return &Cluster{stores: make([]pieces.Store, replicas)}, api.OK
 }
 
 // Backends sets the backends (P7).
@@ -57,15 +65,16 @@ func (x *Cluster) Choose(p api.Packet) (uint8, api.Errno) {
 
 // Owner tells the replica that keeps the pieces of a packet's datagram (P7).
 func (x *Cluster) Owner(p api.Packet) int {
-	if x.replicas < 1 { // New gives no such cluster; there would be nothing to divide by
+	replicas := uint32(len(x.stores))
+	if replicas < 1 { // New gives no such cluster; there would be nothing to divide by
 		return 0
 	}
-	return int(choice.Datagram(p) % uint32(x.replicas))
+	return int(choice.Datagram(p) % replicas)
 }
 
 // Arrive brings bytes to a replica, and tells the arrival's number (P8).
 func (x *Cluster) Arrive(replica int, b []byte) (int, api.Errno) {
-	if replica < 0 || replica >= x.replicas {
+	if replica < 0 || replica >= len(x.stores) {
 		return 0, api.ErrArg
 	}
 	seq := x.arrivals
@@ -75,6 +84,8 @@ func (x *Cluster) Arrive(replica int, b []byte) (int, api.Errno) {
 		x.tell(seq, api.Malformed, 0)
 	} else if packet.Whole(p) {
 		x.pass(seq, p)
+	} else {
+		x.send(seq, replica, p)
 	}
 	return seq, api.OK
 }
@@ -87,6 +98,28 @@ func (x *Cluster) pass(seq int, p api.Packet) {
 		return
 	}
 	x.tell(seq, api.Delivered, backend)
+}
+
+// send brings a piece to its owner at once, if it is there already, else on its way.
+func (x *Cluster) send(seq int, replica int, p api.Packet) {
+	owner := x.Owner(p)
+	f := flight{way: api.Flight{Seq: seq, From: replica, To: owner}, piece: pieces.Of(p)}
+	if owner == replica {
+		x.come(f)
+		return
+	}
+	x.flights = append(x.flights, f)
+}
+
+// come lets a piece come to its owner. The backend is chosen only now: it may be another than when the piece arrived.
+func (x *Cluster) come(f flight) {
+	owner := f.way.To
+	if owner < 0 || owner >= len(x.stores) { // no piece has such an owner
+		return
+	}
+	backend, e := x.Choose(f.piece.Head)
+	events := x.stores[owner].Come(f.way.Seq, f.piece, backend, e)
+	x.events = append(x.events, events...)
 }
 
 func (x *Cluster) tell(seq int, fate api.Fate, where uint8) {
@@ -102,16 +135,55 @@ func (x *Cluster) Take() []api.Event {
 }
 
 // Flying tells what is on its way from replica to replica (P9).
-func (x *Cluster) Flying() []api.Flight { return nil }
+func (x *Cluster) Flying() []api.Flight {
+	var ways []api.Flight
+	for _, f := range x.flights {
+		ways = append(ways, f.way)
+	}
+	return ways
+}
 
 // Deliver lets one of these come in (P9).
-func (x *Cluster) Deliver(k int) api.Errno { return api.OK }
+func (x *Cluster) Deliver(k int) api.Errno {
+	f, e := x.land(k)
+	if e != api.OK {
+		return e
+	}
+	x.come(f)
+	return api.OK
+}
 
 // Lose lets one of these be lost (P9).
-func (x *Cluster) Lose(k int) api.Errno { return api.OK }
+func (x *Cluster) Lose(k int) api.Errno {
+	f, e := x.land(k)
+	if e != api.OK {
+		return e
+	}
+	x.tell(f.way.Seq, api.Lost, 0)
+	return api.OK
+}
+
+// land takes a piece off its way; the others stay in their order.
+func (x *Cluster) land(k int) (flight, api.Errno) {
+	if k < 0 || k >= len(x.flights) {
+		return flight{}, api.ErrArg
+	}
+	f := x.flights[k]
+	last := len(x.flights) - 1
+	for i := k; i < last; i++ {
+		x.flights[i] = x.flights[i+1]
+	}
+	x.flights = x.flights[:last]
+	return f, api.OK
+}
 
 // Held tells what a replica keeps (P10).
-func (x *Cluster) Held(replica int) (api.Load, api.Errno) { return api.Load{}, api.OK }
+func (x *Cluster) Held(replica int) (api.Load, api.Errno) {
+	if replica < 0 || replica >= len(x.stores) {
+		return api.Load{}, api.ErrArg
+	}
+	return x.stores[replica].Load(), api.OK
+}
 
 // Tick lets time go by (P11).
 func (x *Cluster) Tick() {}

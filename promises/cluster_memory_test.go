@@ -112,11 +112,7 @@ func TestP2Take(t *testing.T) {
 		scrawl(l)
 		all, kept = append(all, l), append(kept, slices.Clone(l[:cap(l)]))
 	}
-	for i, l := range all {
-		if !slices.Equal(l[:cap(l)], kept[i]) {
-			t.Errorf("P2: what Take told has changed since: %v, was %v", l, kept[i])
-		}
-	}
+	checkKept(t, "Take", all, kept)
 	checkApart(t, all, scrawl)
 }
 

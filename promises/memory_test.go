@@ -41,6 +41,16 @@ func checkApart[T comparable](t *testing.T, lists [][]T, write func([]T)) {
 	}
 }
 
+// checkKept: lists that came out, and their spare room, are as they were.
+func checkKept[T comparable](t *testing.T, call string, lists, kept [][]T) {
+	t.Helper()
+	for i, l := range lists {
+		if !slices.Equal(l[:cap(l)], kept[i]) {
+			t.Errorf("P2: what %s told has changed since: %v, was %v", call, l[:cap(l)], kept[i])
+		}
+	}
+}
+
 // packets: of each kind, with no Data and with much, well-formed and not.
 func packets() []api.Packet {
 	return []api.Packet{
