@@ -23,6 +23,7 @@ func Table(backends []uint8) ([]uint8, api.Errno) { return choice.Table(backends
 // Cluster is some replicas.
 type Cluster struct {
 	stores   []pieces.Store // one for each replica
+	life     int            // of an entry, in ticks
 	table    []uint8        // empty, as long as there are no backends
 	arrivals int
 	events   []api.Event // not yet taken
@@ -40,7 +41,7 @@ func New(replicas int, life int) (*Cluster, api.Errno) {
 	if replicas < 1 || replicas > api.MaxReplicas || life < 1 || life > api.MaxLife {
 		return nil, api.ErrArg
 	}
-	return &Cluster{stores: make([]pieces.Store, replicas)}, api.OK
+	return &Cluster{stores: make([]pieces.Store, replicas), life: life}, api.OK
 }
 
 // Backends sets the backends (P7).
@@ -186,4 +187,9 @@ func (x *Cluster) Held(replica int) (api.Load, api.Errno) {
 }
 
 // Tick lets time go by (P11).
-func (x *Cluster) Tick() {}
+func (x *Cluster) Tick() {
+	for i := range x.stores {
+		events := x.stores[i].Tick(x.life)
+		x.events = append(x.events, events...)
+	}
+}

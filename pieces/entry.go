@@ -5,6 +5,7 @@ import "ferry/api"
 // entry is what the owner of a datagram knows of it.
 type entry struct {
 	of      datagram
+	age     int       // in ticks, since it began
 	spans   []span    // of the accepted pieces
 	ended   bool      // the last piece is accepted
 	end     int       // and the datagram ends here
@@ -53,6 +54,15 @@ func (v *entry) accept(seq int, p Piece, backend uint8) []api.Event {
 		events = append(events, api.Event{Seq: w.seq, Fate: api.Delivered, Where: v.backend})
 	}
 	v.held = nil
+	return events
+}
+
+// timeout tells of all that are held back till now, when their entry is gone.
+func (v *entry) timeout() []api.Event {
+	var events []api.Event
+	for _, w := range v.held {
+		events = append(events, api.Event{Seq: w.seq, Fate: api.Timeout})
+	}
 	return events
 }
 

@@ -1,4 +1,4 @@
-// Package pieces: what a replica keeps of the datagrams that come to it in pieces (P10).
+// Package pieces: what a replica keeps of the datagrams that come to it in pieces, and for how long (P10, P11).
 package pieces
 
 import "ferry/api"

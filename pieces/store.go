@@ -69,6 +69,23 @@ func (s *Store) drop(at int) {
 	s.entries = rest
 }
 
+// Tick lets a tick go by for the entries, and tells of the pieces whose time is out.
+func (s *Store) Tick(life int) []api.Event {
+	var events []api.Event
+	var rest []entry
+	for _, v := range s.entries {
+		v.age++
+		if v.age < life {
+			rest = append(rest, v)
+			continue
+		}
+		late := v.timeout()
+		events = append(events, late...)
+	}
+	s.entries = rest
+	return events
+}
+
 // Load tells how much the replica keeps.
 func (s *Store) Load() api.Load {
 	load := api.Load{Entries: len(s.entries)}

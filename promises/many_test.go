@@ -62,34 +62,78 @@ func (s *source) move(t *testing.T, x *ferry.Cluster, m *model, datagrams int) {
 	}
 }
 
-// TestP10Many: any calls in any order, against the model after each.
-func TestP10Many(t *testing.T) {
-	s := &source{10}
-	var fates [7]int
-	for round := range 600 {
-		replicas := 1 + s.below(5)
-		x := begin(t, replicas, 20)
-		m := newModel(replicas)
-		if round%8 > 0 {
-			m.backends = []uint8{1, 2, 3}
-			setBackends(t, x, m.backends, api.OK)
-		}
-		datagrams := 1 + s.below(8)
-		for range 120 {
-			s.move(t, x, m, datagrams)
-			m.check(t, x)
-			if t.Failed() {
-				t.Fatalf("P10: in round %d, after %d arrivals", round, m.arrivals)
-			}
-		}
-		for _, v := range m.events {
-			fates[v.Fate]++
-		}
-		m.take(t, x)
+// moveOrTick: a call; one in so many is a tick, or none at 0.
+func (s *source) moveOrTick(t *testing.T, x *ferry.Cluster, m *model, datagrams, oneIn int) {
+	t.Helper()
+	if oneIn == 0 || s.below(oneIn) > 0 {
+		s.move(t, x, m, datagrams)
+		return
 	}
-	for _, fate := range []api.Fate{api.Delivered, api.Malformed, api.NoBackend, api.Overlap, api.Full, api.Lost} {
+	x.Tick()
+	m.tick()
+}
+
+// manyCalls: a cluster and a model, with calls in any order, against each other after each; tells of the fates.
+func (s *source) manyCalls(t *testing.T, life, oneIn int) (fates [7]int) {
+	t.Helper()
+	replicas := 1 + s.below(5)
+	x := begin(t, replicas, life)
+	m := newModel(replicas, life)
+	if s.below(8) > 0 {
+		m.backends = []uint8{1, 2, 3}
+		setBackends(t, x, m.backends, api.OK)
+	}
+	datagrams := 1 + s.below(8)
+	for range 120 {
+		s.moveOrTick(t, x, m, datagrams, oneIn)
+		m.check(t, x)
+		if t.Failed() {
+			t.Fatalf("of %d replicas with the life %d, after %d arrivals and %d ticks", replicas, life, m.arrivals, m.ticks)
+		}
+	}
+	for _, v := range m.events {
+		fates[v.Fate]++
+	}
+	m.take(t, x)
+	return fates
+}
+
+func add(all *[7]int, fates [7]int) {
+	for i, n := range fates {
+		all[i] += n
+	}
+}
+
+// checkWild: each of these fates has come about, and often.
+func checkWild(t *testing.T, fates [7]int, want ...api.Fate) {
+	t.Helper()
+	for _, fate := range want {
 		if fates[fate] < 50 {
 			t.Errorf("the calls drawn are too tame: only %d of the fate %d", fates[fate], fate)
 		}
 	}
+}
+
+// TestP10Many: any calls but ticks.
+func TestP10Many(t *testing.T) {
+	s := &source{10}
+	var all [7]int
+	for range 600 {
+		add(&all, s.manyCalls(t, 1, 0))
+	}
+	checkWild(t, all, api.Delivered, api.Malformed, api.NoBackend, api.Overlap, api.Full, api.Lost)
+}
+
+// TestP11Many: any calls, with ticks among them, few or many.
+func TestP11Many(t *testing.T) {
+	s := &source{11}
+	var all [7]int
+	for round := range 800 {
+		life := 1 + s.below(20)
+		if round%2 == 0 {
+			life = 1 + s.below(4)
+		}
+		add(&all, s.manyCalls(t, life, 2+s.below(10)))
+	}
+	checkWild(t, all, api.Delivered, api.Malformed, api.NoBackend, api.Overlap, api.Full, api.Lost, api.Timeout)
 }

@@ -8,9 +8,11 @@ import (
 	"ferry/ferry"
 )
 
-// model: a cluster by the words of P8 to P10, byte by byte.
+// model: a cluster by the words of P8 to P11, byte by byte.
 type model struct {
 	replicas int
+	life     int
+	ticks    int
 	backends []uint8
 	arrivals int
 	events   []api.Event
@@ -25,6 +27,7 @@ type modelWay struct {
 
 type modelEntry struct {
 	datagram [4]int
+	began    int          // after so many ticks
 	has      map[int]bool // bytes
 	end      int          // -1: not known
 	backend  int          // -1: not known
@@ -33,8 +36,8 @@ type modelEntry struct {
 
 type modelHeld struct{ seq, bytes int }
 
-func newModel(replicas int) *model {
-	return &model{replicas: replicas, entries: make([][]*modelEntry, replicas)}
+func newModel(replicas, life int) *model {
+	return &model{replicas: replicas, life: life, entries: make([][]*modelEntry, replicas)}
 }
 
 func (m *model) tell(seq int, fate api.Fate, where int) {
@@ -109,7 +112,7 @@ func (m *model) come(way modelWay) {
 		m.tell(way.Seq, api.Full, 0)
 	default:
 		if v == nil {
-			v = &modelEntry{datagram: datagramOf(way.p), has: map[int]bool{}, end: -1, backend: -1}
+			v = &modelEntry{datagram: datagramOf(way.p), began: m.ticks, has: map[int]bool{}, end: -1, backend: -1}
 			m.entries[way.To] = append(m.entries[way.To], v)
 		}
 		m.accept(v, way)
@@ -155,6 +158,24 @@ func (m *model) accept(v *modelEntry, way modelWay) {
 	}
 	if v.end >= 0 {
 		m.entries[way.To] = slices.DeleteFunc(m.entries[way.To], func(w *modelEntry) bool { return w == v })
+	}
+}
+
+// tick: P11.
+func (m *model) tick() {
+	m.ticks++
+	for replica, l := range m.entries {
+		var young []*modelEntry
+		for _, v := range l {
+			if m.ticks < v.began+m.life {
+				young = append(young, v)
+				continue
+			}
+			for _, h := range v.held {
+				m.tell(h.seq, api.Timeout, 0)
+			}
+		}
+		m.entries[replica] = young
 	}
 }
 
